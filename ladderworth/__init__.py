@@ -1,0 +1,1 @@
+"""Ladderworth: worths of players, told from who beat whom."""

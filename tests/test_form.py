@@ -1,0 +1,96 @@
+import ast
+import os
+import unittest
+
+from tests.form import PACKAGE, cycles, defined, faults
+
+FOLDER = os.path.join(os.path.dirname(os.path.dirname(os.path.abspath(__file__))), PACKAGE)
+
+
+def texts():
+    found = {}
+    for path in sorted(os.listdir(FOLDER)):
+        if path.endswith(".py"):
+            with open(os.path.join(FOLDER, path), encoding="utf-8") as file:
+                found[path] = file.read()
+    return found
+
+
+class Package(unittest.TestCase):
+    def test_only_program_files_lie_in_it(self):
+        others = [path for path in os.listdir(FOLDER) if not path.endswith(".py") and path != "__pycache__"]
+        self.assertEqual(others, [])
+        self.assertIn("__init__.py", os.listdir(FOLDER))
+
+    def test_the_files_keep_to_the_rules(self):
+        for path, text in texts().items():
+            with self.subTest(path):
+                self.assertEqual(faults(path, text), [])
+
+    def test_no_two_files_draw_from_one_another(self):
+        self.assertEqual(cycles(texts()), [])
+
+    def test_each_name_is_drawn_from_the_file_that_defines_it(self):
+        for path, text in texts().items():
+            for node in ast.parse(text).body:
+                if isinstance(node, ast.ImportFrom):
+                    with self.subTest(path=path, row=node.lineno):
+                        source = texts()[node.module[len(PACKAGE) + 1:] + ".py"]
+                        self.assertLessEqual({name.name for name in node.names}, defined(source))
+
+    def test_no_name_is_a_method_and_a_value(self):
+        methods = set()
+        values = set()
+        for text in texts().values():
+            for node in ast.walk(ast.parse(text)):
+                if isinstance(node, ast.ClassDef):
+                    methods |= {part.name for part in node.body if isinstance(part, ast.FunctionDef)}
+                if isinstance(node, ast.Attribute) and isinstance(node.ctx, ast.Store):
+                    values.add(node.attr)
+        self.assertEqual(methods & values, set())
+
+
+class Reader(unittest.TestCase):
+    WRONG = [
+        ("L2", "import math\n"), ("L2", "from time import time\n"), ("L2", "from random import random\n"),
+        ("L2", "from ladderworth.errors import *\n"), ("L2", "from .errors import NoGame\n"),
+        ("L3", "print(1)\n"), ("L3", "x = [len]()\n"), ("L3", "x = [[1]]\n"),
+        ("L4", "def f(*a):\n    return a\n"), ("L4", "@f\ndef g():\n    return 1\n"), ("L4", "def f(a=[]):\n    return a\n"),
+        ("L5", "class A:\n    x = 1\n"), ("L5", "class A(B, C):\n    pass\n"),
+        ("L6", "def f(a):\n    assert a\n"), ("L6", "def f(a):\n    b = c = a\n"), ("L6", "def f(a):\n    b, c = a\n"),
+        ("L6", "def f(a):\n    for b in a:\n        pass\n    else:\n        pass\n"),
+        ("L6", "def f():\n    'said'\n"), ("L6", "def f(a):\n    with a:\n        pass\n"),
+        ("L7", "def f(a):\n    return a / 2\n"), ("L7", "def f():\n    return 0.5\n"), ("L7", "def f():\n    return b'a'\n"),
+        ("L7", "def f(a):\n    return all(b for b in a)\n"), ("L7", "def f(a):\n    return {b: 1 for b in a}\n"),
+        ("L7", "def f(a):\n    return f'{a + 1}'\n"), ("L7", "def f(a):\n    return [*a]\n"),
+        ("L7", "def f(a):\n    return [c for b in a for c in b]\n"),
+        ("L8", "def f(a):\n    return print(a)\n"), ("L8", "def f(a):\n    return chr(a)\n"),
+        ("L10", "x = '" + "a" * 120 + "'\n"), ("L10", "def f():\n" + "    g()\n" * 40), ("L10", "\n" * 401),
+        ("L12", "def _f():\n    return 1\n"), ("L12", "def f(_a):\n    return 1\n"),
+        ("L14", "x = '\u00e4'\n"), ("L14", "x = 1\t\n"),
+        ("L15", "def f(id):\n    return 1\n"), ("L15", "def f():\n    sum = 1\n"), ("L15", "x = 1\nx = 2\n"),
+        ("L15", "from ladderworth.errors import a\n\n\ndef f(a):\n    return 1\n"),
+        ("L17", "# its type\n"), ("L17", "def f(a):\n    return a.open\n"), ("L17", "def f(a):\n    return getattr(a, 'b')\n"),
+        ("L19", "def f():\n    try:\n        g()\n    except Exception:\n        pass\n"),
+        ("L20", "def f(a, b):\n    return a is b\n"), ("L21", "def f(a: int):\n    return a\n"),
+        ("L22", "def f(a):\n    return int(a, base=2)\n"), ("L25", "def f(a):\n    return a.casefold()\n"),
+        ("L27", "def f(a):\n    return 2 ** a\n"), ("L27", "x = '%'\n"),
+    ]
+
+    def test_what_is_wrong_is_seen(self):
+        for rule, text in self.WRONG:
+            with self.subTest(rule=rule, text=text):
+                self.assertIn(rule, [found[0] for found in faults("some.py", text)])
+
+    def test_wrong_file_names_are_seen(self):
+        for path in ("Some.py", "sum.py", "a-b.py", "_a.py"):
+            self.assertIn("L14", [found[0] for found in faults(path, "")])
+
+    def test_cycles_are_seen(self):
+        self.assertEqual(cycles({
+            "a.py": "from ladderworth.b import x\n", "b.py": "from ladderworth.c import x\n",
+            "c.py": "from ladderworth.a import x\n", "d.py": "from ladderworth.a import x\n"}), ["a.py", "b.py", "c.py"])
+
+
+if __name__ == "__main__":
+    unittest.main()
