@@ -28,11 +28,14 @@ STATEMENTS = (ast.Assign, ast.AugAssign, ast.If, ast.While, ast.For, ast.Return,
 EXPRESSIONS = (ast.BoolOp, ast.BinOp, ast.UnaryOp, ast.Lambda, ast.IfExp, ast.Dict, ast.Set, ast.ListComp, ast.Compare,
                ast.Call, ast.FormattedValue, ast.JoinedStr, ast.Constant, ast.Attribute, ast.Subscript, ast.Name,
                ast.List, ast.Tuple, ast.Slice)
+WALKERS = {"zip", "enumerate", "reversed", "range"}
+WALKING_METHODS = {"items", "keys", "values"}
+TAKERS = {"list", "tuple", "dict", "sorted", "sum", "any", "all", "enumerate", "zip"}
 
 
 def faults(path, text):
     tree = ast.parse(text)
-    found = signs(text) + top(path, tree)
+    found = signs(text) + top(path, tree) + misplaced(tree)
     own = own_methods(tree)
     taken = {name.name for node in tree.body if isinstance(node, ast.ImportFrom) for name in node.names}
     taken |= {node.name for node in tree.body if isinstance(node, ast.ClassDef)}
@@ -89,6 +92,52 @@ def is_plain(node, within):
     if isinstance(node, ast.UnaryOp):
         return is_plain(node.operand, True)
     return isinstance(node, (ast.Constant, ast.Name))
+
+
+def misplaced(tree):
+    """Walks that are kept (L23), and sets that are kept or walked (L24)."""
+    parents = {part: node for node in ast.walk(tree) for part in ast.iter_child_nodes(node)}
+    found = []
+    for node in ast.walk(tree):
+        if is_walk(node) and not is_walked(node, parents[node]):
+            found.append(("L23", node.lineno))
+        if is_set(node) and not is_asked(node, parents):
+            found.append(("L24", node.lineno))
+    return found
+
+
+def called(node):
+    return node.func.id if isinstance(node, ast.Call) and isinstance(node.func, ast.Name) else ""
+
+
+def is_walk(node):
+    if isinstance(node, ast.Call) and isinstance(node.func, ast.Attribute):
+        return node.func.attr in WALKING_METHODS
+    return called(node) in WALKERS
+
+
+def is_walked(node, parent):
+    if isinstance(parent, (ast.For, ast.comprehension)):
+        return parent.iter is node
+    if isinstance(parent, ast.Call) and isinstance(parent.func, ast.Attribute):
+        return parent.func.attr == "join" and isinstance(parent.func.value, ast.Constant)
+    if called(parent) in ("min", "max"):
+        return len(parent.args) == 1
+    return called(parent) in TAKERS and parent.args[0] is node
+
+
+def is_set(node):
+    return called(node) in ("set", "frozenset") or isinstance(node, ast.Set)
+
+
+def is_asked(node, parents):
+    parent = parents[node]
+    while isinstance(parent, ast.BinOp) and isinstance(parent.op, (ast.Sub, ast.BitAnd, ast.BitOr, ast.BitXor)):
+        node = parent
+        parent = parents[node]
+    if isinstance(parent, ast.Compare):
+        return all(isinstance(sort, (ast.In, ast.NotIn, ast.Eq, ast.NotEq)) for sort in parent.ops)
+    return called(parent) in ("sorted", "len") and not parent.keywords
 
 
 def own_methods(tree):
@@ -213,8 +262,7 @@ def constant(node):
 
 def call(node, own):
     rules = []
-    called = node.func.id if isinstance(node.func, ast.Name) else ""
-    if called in OWN_NAMES and any(word.arg not in KEYWORDS.get(called, ()) for word in node.keywords):
+    if called(node) in OWN_NAMES and any(word.arg not in KEYWORDS.get(called(node), ()) for word in node.keywords):
         rules.append("L22")
     if isinstance(node.func, ast.Attribute) and node.func.attr not in METHODS | own | DOUBLE:
         rules.append("L25")

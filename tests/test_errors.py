@@ -1,12 +1,17 @@
 import unittest
 
 from ladderworth import errors
+from ladderworth.above import above, took, way
+from ladderworth.books import read_book
+from ladderworth.ends import ends, lowers, uppers
 from ladderworth.errors import LadderError, NoFit
 from ladderworth.games import game, read_game
 from ladderworth.ratios import fraction, over
 from ladderworth.stretches import stretch
+from ladderworth.sums import fits, sums, weight
 
 NAMES = ["NoNumber", "NoStretch", "NoGame", "NoBook", "NoPlayer", "NoWorth", "NoFit", "NoTable", "NoTree", "NoRow"]
+EVEN = [(1, "ann", "bob", 1, 0)]
 
 
 def refusal(name):
@@ -60,6 +65,22 @@ class Raised(unittest.TestCase):
         ("NoGame", game, (0, "ann", "ann", 2, 0)),
         ("NoGame", read_game, ("",)),
         ("NoGame", read_game, (None,)),
+        ("NoGame", read_book, (None,)),
+        ("NoGame", read_book, ("1 ann beat bob;",)),
+        ("NoBook", read_book, ("; ".join(["1 ann beat bob"] * 41),)),
+        ("NoPlayer", took, ([], "ann")),
+        ("NoPlayer", above, ([], "ann")),
+        ("NoPlayer", way, (EVEN, "ann", "zoe")),
+        ("NoPlayer", way, (EVEN, "zoe", "ann")),
+        ("NoWorth", sums, (EVEN, [])),
+        ("NoWorth", fits, (EVEN, [(0, 1), (1, 1)])),
+        ("NoWorth", weight, (EVEN, [(1, 1), (1, 1)], (0, 1))),
+        ("NoFit", uppers, ([], "ann", 1, 1)),
+        ("NoFit", lowers, ([], "ann", 1, 1)),
+        ("NoFit", ends, ([], "ann", 1, 1)),
+        ("NoPlayer", uppers, (EVEN, "zoe", 1, 1)),
+        ("NoPlayer", lowers, (EVEN, "zoe", 1, 1)),
+        ("NoPlayer", ends, (EVEN, "zoe", 1, 1)),
     ]
 
     def test_each_function_raises_just_its_own_class(self):

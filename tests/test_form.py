@@ -74,6 +74,11 @@ class Reader(unittest.TestCase):
         ("L19", "def f():\n    try:\n        g()\n    except Exception:\n        pass\n"),
         ("L20", "def f(a, b):\n    return a is b\n"), ("L21", "def f(a: int):\n    return a\n"),
         ("L22", "def f(a):\n    return int(a, base=2)\n"), ("L25", "def f(a):\n    return a.casefold()\n"),
+        ("L23", "def f(a):\n    return zip(a, a)\n"), ("L23", "def f(a):\n    b = a.items()\n    return len(b)\n"),
+        ("L23", "def f(a):\n    return dict(a, enumerate(a))\n"), ("L23", "def f(a):\n    return max(0, range(a))\n"),
+        ("L24", "def f(a):\n    return set(a)\n"), ("L24", "def f(a):\n    return [b for b in set(a)]\n"),
+        ("L24", "def f(a):\n    b = {a}\n    return 1\n"), ("L24", "def f(a):\n    return sorted(set(a), key=len)\n"),
+        ("L24", "def f(a):\n    return list(set(a))\n"),
         ("L27", "def f(a):\n    return 2 ** a\n"), ("L27", "x = '%'\n"),
     ]
 
@@ -81,6 +86,12 @@ class Reader(unittest.TestCase):
         for rule, text in self.WRONG:
             with self.subTest(rule=rule, text=text):
                 self.assertIn(rule, [found[0] for found in faults("some.py", text)])
+
+    def test_what_is_right_is_not(self):
+        for row in ("sorted(set(a))", "len(set(a) - set(a))", "set(a) == set(a)", "a in set(a)", "dict(zip(a, a))",
+                    "[b for b in a.items()]", "max(range(a))", "list(reversed(a))", "', '.join(a.keys())"):
+            with self.subTest(row):
+                self.assertEqual(faults("some.py", "def f(a):\n    return " + row + "\n"), [])
 
     def test_wrong_file_names_are_seen(self):
         for path in ("Some.py", "sum.py", "a-b.py", "_a.py"):

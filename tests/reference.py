@@ -1,0 +1,183 @@
+"""The words of ../shared/DOC.md done plainly, with Python's own fractions and sets, and books to try them on."""
+
+from bisect import bisect_left, bisect_right
+from fractions import Fraction
+from itertools import combinations, permutations, product
+
+from ladderworth.books import read_book
+
+MOST = 100000
+
+# Books whose worths are known, as (text, worths, edge).
+FITTED = [
+    ("1 ann drew bob", [(1, 1), (1, 1)], None),
+    ("1 ann beat bob; 2 ann beat bob; 3 bob beat ann", [(2, 1), (1, 1)], None),
+    ("1 ann beat bob; 2 ann drew bob", [(3, 1), (1, 1)], None),
+    ("1 ann beat bob; 1 bob beat cid; 1 cid beat ann", [(1, 1), (1, 1), (1, 1)], None),
+    ("1 ann beat bob; 2 ann beat bob; 3 ann lost bob; 4 bob beat cid; 5 bob beat cid; 6 bob beat cid; 7 bob lost cid",
+     [(6, 1), (3, 1), (1, 1)], None),
+    # The shares are 1/3, 2/5 and 3/4; a ring of wins is shifted, so that the single pairings don't fit, but the sums do.
+    ("1 ann beat bob; 2 ann beat bob; 3 bob beat ann; 4 bob beat cid; 5 bob beat cid; 6 bob beat cid; 7 cid beat bob; "
+     "8 cid beat bob; 9 cid beat ann; 10 cid beat ann; 11 cid beat ann; 12 cid beat ann",
+     [(1, 1), (2, 1), (3, 1)], None),
+    ("1 ann* beat bob; 2 ann* beat bob; 3 bob lost ann*; 4 bob beat ann*", [(2, 1), (1, 1)], (3, 2)),
+    ("1 ann beat bob*; 2 ann beat bob*; 3 bob* beat ann", [(1, 1), (1, 1)], (1, 2)),
+    ("1 ann* beat bob; 2 ann* beat bob; 3 bob beat ann*", [(2, 1), (1, 1)], None),
+    ("1 ann* beat bob; 2 bob* beat ann; 3 bob* drew cid; 4 bob drew cid*", [(5, 7), (5, 7), (5, 7)], (9, 4)),
+    ("1 ann beat dan; 2 dan beat ann; 3 dan beat bob; 4 dan beat bob; 5 bob beat dan; 6 cid drew dan; 7 cid beat dan",
+     [(2, 3), (1, 3), (2, 1), (2, 3)], None),
+]
+
+PAIRINGS = [[], [2], [1], [0], [2, 0], [2, 2, 0], [0, 1], [2, 2]]
+
+
+def books(names, pairings):
+    """Every book in which each two of the names met by one of the pairings, lists of half points."""
+    pairs = list(combinations(names, 2))
+    for chosen in product(pairings, repeat=len(pairs)):
+        games = []
+        for (one, other), halves in zip(pairs, chosen):
+            for won in halves:
+                games.append(told((len(games), one, other, won, len(games) % 3 - 1), len(games) % 2 == 1))
+        yield games
+
+
+def told(played, about):
+    day, one, other, halves, side = played
+    return (day, other, one, 2 - halves, -side) if about else played
+
+
+def three():
+    return list(books(["ann", "bob", "cid"], PAIRINGS))
+
+
+def four():
+    return list(books(["ann", "bob", "cid", "dan"], [[], [2], [1], [0]]))
+
+
+def fitted():
+    return [(read_book(text), worths, edge) for text, worths, edge in FITTED]
+
+
+def value(one):
+    return Fraction(one[0], one[1])
+
+
+def pair(one):
+    return (one.numerator, one.denominator)
+
+
+def names_of(games):
+    return sorted({name for played in games for name in played[1:3]})
+
+
+def both_ways(games):
+    """Each game told by each of its players, as (player, other, halves, side)."""
+    found = []
+    for day, one, other, halves, side in games:
+        found += [(one, other, halves, side), (other, one, 2 - halves, -side)]
+    return found
+
+
+def takers(games, name):
+    return {one for one, other, halves, side in both_ways(games) if other == name and halves > 0}
+
+
+def closure(games, name):
+    found = {name}
+    while True:
+        more = found.union(*[takers(games, one) for one in found])
+        if more == found:
+            return sorted(found)
+        found = more
+
+
+def first_way(games, one, other):
+    ways = [[one]] if one == other else []
+    between = [name for name in names_of(games) if name not in (one, other)]
+    for many in range(len(between) + 1):
+        for middle in permutations(between, many):
+            ways.append([one] + list(middle) + [other])
+    right = [way for way in ways if all(late in takers(games, early) for early, late in zip(way, way[1:]))]
+    return min(right, key=lambda way: (len(way), way), default=None)
+
+
+def parts_of(games):
+    parts = [{name} for name in names_of(games)]
+    for played in games:
+        joined = [part for part in parts if played[1] in part or played[2] in part]
+        parts = [part for part in parts if part not in joined] + [set().union(*joined)]
+    return sorted(sorted(part) for part in parts)
+
+
+def judged(games):
+    for name in names_of(games):
+        met = {other for one, other, halves, side in both_ways(games) if one == name}
+        if not met <= set(closure(games, name)):
+            return ("none", closure(games, name))
+    parts = parts_of(games)
+    return ("one", parts[0]) if len(parts) == 1 else ("loose", parts)
+
+
+def share_of(worth, other, side, edge):
+    if side == 1:
+        return edge * worth / (edge * worth + other)
+    if side == -1:
+        return worth / (worth + edge * other)
+    return worth / (worth + other)
+
+
+def edge_of(edge):
+    return Fraction(1) if edge is None else value(edge)
+
+
+def sum_of(games, worths, name, edge):
+    whole = Fraction(0)
+    for one, other, halves, side in both_ways(games):
+        if one == name:
+            whole += share_of(worths[one], worths[other], side, edge_of(edge)) - Fraction(halves, 2)
+    return whole
+
+
+def weight_of(games, worths, edge):
+    worths = dict(zip(names_of(games), worths))
+    whole = Fraction(1)
+    for day, one, other, halves, side in games:
+        share = share_of(worths[one], worths[other], side, edge_of(edge))
+        whole *= {2: share * share, 1: share * (1 - share), 0: (1 - share) * (1 - share)}[halves]
+    return whole
+
+
+def sum_with(games, numbers, name, number, edge):
+    worths = dict(zip(names_of(games), [Fraction(one) for one in numbers]))
+    worths[name] = Fraction(number)
+    return sum_of(games, worths, name, edge)
+
+
+def raised_to(games, numbers, name, edge):
+    below = bisect_left(range(1, MOST + 1), 0, key=lambda number: sum_with(games, numbers, name, number, edge))
+    return min(below + 1, MOST)
+
+
+def lowered_to(games, numbers, name, edge):
+    return bisect_right(range(1, MOST + 1), 0, key=lambda number: sum_with(games, numbers, name, number, edge))
+
+
+def row_of(games, anchor, scale, rounds, edge, upper):
+    names = names_of(games)
+    move = raised_to if upper else lowered_to
+    numbers = [scale if name == anchor else 1 if upper else MOST for name in names]
+    for turn in range(rounds):
+        for at, name in enumerate(names):
+            if name != anchor:
+                numbers[at] = move(games, numbers, name, edge)
+    return (numbers, is_settled(games, anchor, numbers, edge, upper))
+
+
+def is_settled(games, anchor, numbers, edge, upper):
+    for name, number in zip(names_of(games), numbers):
+        if name != anchor and (upper or number != 0):
+            found = sum_with(games, numbers, name, number, edge)
+            if found < 0 if upper else found > 0:
+                return False
+    return True

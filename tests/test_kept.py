@@ -1,0 +1,106 @@
+"""Nothing that is handed in is changed, each told list is the asker's own, and nothing hangs on what was asked before."""
+
+import unittest
+from copy import deepcopy
+
+from ladderworth.above import above, took, verdict, way
+from ladderworth.books import in_order, players, points, read_book, show_book
+from ladderworth.ends import ends, lowered, lowers, raised, uppers
+from ladderworth.errors import LadderError, NoFit
+from ladderworth.sums import fits, share, sums, weight
+
+RING = read_book("9 ann* beat bob; 1 bob beat cid; 5 cid beat ann")
+LOOSE = read_book("1 ann drew bob; 2 cid drew dan")
+NONE = read_book("1 ann beat bob; 2 bob beat cid")
+WORTHS = [(1, 2), (3, 1), (2, 1)]
+
+ASKED = [
+    (read_book, ["9 ann beat bob; 1 bob drew cid"]), (read_book, [""]), (show_book, [RING]), (in_order, [RING]),
+    (in_order, [[]]), (players, [RING]), (players, [[]]), (points, [RING]), (points, [[]]),
+    (took, [RING, "ann"]), (took, [NONE, "ann"]), (above, [RING, "ann"]), (above, [NONE, "ann"]),
+    (way, [RING, "ann", "bob"]), (way, [RING, "ann", "ann"]), (way, [NONE, "ann", "bob"]),
+    (verdict, [RING]), (verdict, [LOOSE]), (verdict, [NONE]), (verdict, [[]]),
+    (share, [(1, 2), (3, 1), 1, (3, 2)]), (sums, [RING, WORTHS, (3, 2)]), (sums, [RING, WORTHS]), (sums, [[], []]),
+    (fits, [RING, WORTHS, (3, 2)]), (weight, [RING, WORTHS, (3, 2)]), (weight, [[], []]),
+    (raised, [RING, [5, 0, 7], "ann", (3, 2)]), (lowered, [RING, [5, 0, 7], "ann", (3, 2)]),
+    (uppers, [RING, "ann", 10, 0]), (uppers, [RING, "ann", 10, 12, (3, 2)]), (lowers, [RING, "cid", 10, 0]),
+    (lowers, [RING, "cid", 10, 12, (3, 2)]), (ends, [RING, "bob", 10, 12]), (ends, [RING, "bob", 10, 0]),
+]
+
+REFUSED = [
+    (read_book, ["9 ann beat bob; x"]), (read_book, [["9 ann beat bob"]]), (took, [RING, "zoe"]), (above, [RING, "zoe"]),
+    (way, [RING, "ann", "zoe"]), (way, [RING, "zoe", "ann"]), (sums, [RING, WORTHS[:2]]), (fits, [RING, WORTHS, (0, 1)]),
+    (weight, [RING, [(1, 1), (0, 1), (1, 1)]]), (uppers, [LOOSE, "ann", 10, 3]), (lowers, [NONE, "ann", 10, 3]),
+    (ends, [RING, "zoe", 10, 3]), (ends, [[], "zoe", 10, 3]),
+]
+
+
+def spoil(thing):
+    """Changes every list in it, however deep."""
+    if isinstance(thing, (list, tuple)):
+        for part in thing:
+            spoil(part)
+    if isinstance(thing, list):
+        thing.reverse()
+        thing.append("spoiled")
+
+
+class Kept(unittest.TestCase):
+    def test_what_is_handed_in_stays(self):
+        for asked, things in ASKED:
+            handed = deepcopy(things)
+            asked(*handed)
+            with self.subTest(asked=asked, things=things):
+                self.assertEqual(handed, things)
+
+    def test_what_is_handed_in_stays_where_it_is_refused(self):
+        for asked, things in REFUSED:
+            handed = deepcopy(things)
+            with self.subTest(asked=asked, things=things), self.assertRaises(LadderError):
+                asked(*handed)
+            self.assertEqual(handed, things)
+
+    def test_told_lists_are_the_askers_own(self):
+        for asked, things in ASKED:
+            handed = deepcopy(things)
+            first = asked(*handed)
+            kept = deepcopy(first)
+            spoil(first)
+            with self.subTest(asked=asked, things=things):
+                self.assertEqual(handed, things)
+                self.assertEqual(asked(*handed), kept)
+
+    def test_what_is_done_later_to_what_was_handed_in_changes_nothing_told(self):
+        for asked, things in ASKED:
+            handed = deepcopy(things)
+            told = asked(*handed)
+            kept = deepcopy(told)
+            spoil(handed)
+            with self.subTest(asked=asked, things=things):
+                self.assertEqual(told, kept)
+
+    def test_what_is_asked_in_between_changes_nothing(self):
+        first = [asked(*deepcopy(things)) for asked, things in ASKED]
+        kept = deepcopy(first)
+        for asked, things in REFUSED:
+            with self.assertRaises(LadderError):
+                asked(*deepcopy(things))
+        for asked, things in reversed(ASKED):
+            spoil(asked(*deepcopy(things)))
+        self.assertEqual(first, kept)
+        self.assertEqual([asked(*deepcopy(things)) for asked, things in ASKED], kept)
+
+    def test_the_verdict_of_a_refusal_is_the_askers_own(self):
+        for games in (LOOSE, NONE, []):
+            kept = verdict(games)
+            with self.assertRaises(NoFit) as caught:
+                uppers(games, "ann", 10, 3)
+            spoil(caught.exception.verdict)
+            with self.assertRaises(NoFit) as again:
+                uppers(games, "ann", 10, 3)
+            self.assertEqual(again.exception.verdict, kept)
+            self.assertEqual(verdict(games), kept)
+
+
+if __name__ == "__main__":
+    unittest.main()
