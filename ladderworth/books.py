@@ -15,11 +15,15 @@ def read_book(text):
     if text == "":
         return []
     games = [read_game(part) for part in text.split(PARTING)]
+    check_size(games)
+    return games
+
+
+def check_size(games):
     if len(games) > MOST_GAMES:
         raise NoBook("a book has forty games at most")
     if len(players(games)) > MOST_PLAYERS:
         raise NoBook("a book has eight players at most")
-    return games
 
 
 def show_book(games):

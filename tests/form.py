@@ -1,6 +1,7 @@
 """Looks through the package's files for what ../shared/LANGUAGE.md leaves out, as far as a reader of trees can see it.
 
-`faults(path, text)` tells a list of (rule, line) of one file; `cycles(texts)` tells of files that draw from one another.
+`faults(path, text, classes)` tells a list of (rule, line) of one file, `classes` being what `classes_of(texts)` tells of
+all files; `cycles(texts)` tells of files that draw from one another.
 """
 
 import ast
@@ -31,12 +32,18 @@ EXPRESSIONS = (ast.BoolOp, ast.BinOp, ast.UnaryOp, ast.Lambda, ast.IfExp, ast.Di
 WALKERS = {"zip", "enumerate", "reversed", "range"}
 WALKING_METHODS = {"items", "keys", "values"}
 TAKERS = {"list", "tuple", "dict", "sorted", "sum", "any", "all", "enumerate", "zip"}
+CHANGES = {"append", "clear", "extend", "insert", "pop", "remove", "reverse", "setdefault", "update"}
+TAKEN_NAMES = {name for kind in (str, int, list, dict, set, frozenset, bytes) for name in dir(kind)}
+FREE_VALUES = {"count", "index", "title", "find", "get", "join", "lower", "upper", "split", "strip", "copy", "add"}
+ERRORS = {name for name in OWN_NAMES if name.endswith(("Error", "Exception", "Iteration"))}
 
 
-def faults(path, text):
+def faults(path, text, classes=None):
+    classes = classes or classes_of({path: text})
     tree = ast.parse(text)
-    found = signs(text) + top(path, tree) + misplaced(tree)
-    own = own_methods(tree)
+    found = signs(text) + top(path, tree) + misplaced(tree) + changed_walks(tree) + lambdas(tree)
+    found += class_uses(tree, classes) + class_bodies(tree)
+    own = own_methods(tree) | classes["methods"]
     taken = {name.name for node in tree.body if isinstance(node, ast.ImportFrom) for name in node.names}
     taken |= {node.name for node in tree.body if isinstance(node, ast.ClassDef)}
     for node in ast.walk(tree):
@@ -138,6 +145,105 @@ def is_asked(node, parents):
     if isinstance(parent, ast.Compare):
         return all(isinstance(sort, (ast.In, ast.NotIn, ast.Eq, ast.NotEq)) for sort in parent.ops)
     return called(parent) in ("sorted", "len") and not parent.keywords
+
+
+def changed_walks(tree):
+    """Loops that change what they walk (L23)."""
+    found = []
+    for loop in ast.walk(tree):
+        if isinstance(loop, ast.For):
+            walked = walked_by(loop.iter)
+            for node in [node for row in loop.body for node in ast.walk(row)]:
+                if changed_by(node) in walked:
+                    found.append(("L23", node.lineno))
+    return found
+
+
+def walked_by(node):
+    if isinstance(node, ast.Call) and isinstance(node.func, ast.Attribute) and node.func.attr in WALKING_METHODS:
+        return [ast.unparse(node.func.value)]
+    if called(node) in WALKERS:
+        return [name for part in node.args for name in walked_by(part)]
+    return [ast.unparse(node)]
+
+
+def changed_by(node):
+    if isinstance(node, ast.Call) and isinstance(node.func, ast.Attribute) and node.func.attr in CHANGES:
+        return ast.unparse(node.func.value)
+    if isinstance(node, ast.Subscript) and isinstance(node.ctx, ast.Store):
+        return ast.unparse(node.value)
+    if isinstance(node, ast.AugAssign):
+        return ast.unparse(node.target)
+    return ""
+
+
+def lambdas(tree):
+    """Two with the same parameters on one line (L13)."""
+    seen = [(node.lineno, ast.unparse(node.args)) for node in ast.walk(tree) if isinstance(node, ast.Lambda)]
+    return [("L13", line) for line, args in sorted(set(seen)) if seen.count((line, args)) > 1]
+
+
+def classes_of(texts):
+    found = {"classes": set(ERRORS), "methods": set(), "values": set()}
+    for text in texts.values():
+        for node in ast.walk(ast.parse(text)):
+            if isinstance(node, ast.ClassDef):
+                found["classes"].add(node.name)
+                found["methods"] |= {part.name for part in node.body if isinstance(part, ast.FunctionDef)}
+            if isinstance(node, ast.Attribute) and isinstance(node.ctx, ast.Store):
+                found["values"].add(node.attr)
+    return found
+
+
+def class_uses(tree, classes):
+    """Classes that are neither called nor named where they may be, and values given otherwise than by a local (L18)."""
+    parents = {part: node for node in ast.walk(tree) for part in ast.iter_child_nodes(node)}
+    bound = {name for node in tree.body for name in top_names(node)}
+    found = []
+    for node in ast.walk(tree):
+        if isinstance(node, ast.Name) and node.id in classes["classes"] and not is_class_use(node, parents):
+            found.append(("L18", node.lineno))
+        if isinstance(node, ast.Attribute) and isinstance(node.ctx, ast.Store):
+            if not isinstance(node.value, ast.Name) or node.value.id in bound | classes["classes"]:
+                found.append(("L18", node.lineno))
+    return found
+
+
+def is_class_use(node, parents):
+    parent = parents[node]
+    if isinstance(parent, ast.Tuple):
+        node = parent
+        parent = parents[node]
+    if isinstance(parent, ast.Call):
+        return parent.func is node or called(parent) == "isinstance" and parent.args[1] is node
+    if isinstance(parent, ast.Attribute):
+        return parent.attr == "__init__" and isinstance(parents[parent], ast.Call)
+    return isinstance(parent, (ast.ClassDef, ast.ExceptHandler, ast.Raise))
+
+
+def top_names(node):
+    if isinstance(node, ast.ImportFrom):
+        return [name.name for name in node.names]
+    if isinstance(node, ast.Assign):
+        return [target.id for target in node.targets if isinstance(target, ast.Name)]
+    return [node.name] if isinstance(node, (ast.FunctionDef, ast.ClassDef)) else []
+
+
+def class_bodies(tree):
+    """Methods that stand twice (L18), names that are not free (L26), and methods with two underscores (L28)."""
+    found = []
+    for node in ast.walk(tree):
+        if isinstance(node, ast.ClassDef):
+            names = [part.name for part in node.body if isinstance(part, ast.FunctionDef)]
+            found += [("L18", node.lineno) for name in set(names) if names.count(name) > 1]
+            found += [("L26", node.lineno) for name in names if name in TAKEN_NAMES - METHODS - DOUBLE - {"add", "discard"}]
+            found += [("L28", node.lineno) for name in names if name in DOUBLE - {"__init__"}]
+        if isinstance(node, ast.Attribute) and isinstance(node.ctx, ast.Store):
+            if node.attr in (TAKEN_NAMES | {"args", "sort"}) - FREE_VALUES:
+                found.append(("L26", node.lineno))
+        if isinstance(node, ast.FunctionDef) and node.name == "__init__":
+            found += [("L28", part.lineno) for part in ast.walk(node) if isinstance(part, ast.Return)]
+    return found
 
 
 def own_methods(tree):
@@ -249,9 +355,15 @@ def expression(node, own):
             if isinstance(sort, (ast.Is, ast.IsNot)) and not (
                     isinstance(right, ast.Constant) and right.value in (None, True, False)):
                 rules.append("L20")
+    if isinstance(node, ast.Set) and len([part for part in node.elts if is_number(part)]) > 2:
+        rules.append("L13")
     if isinstance(node, ast.Call):
         rules += call(node, own)
     return rules
+
+
+def is_number(node):
+    return isinstance(node, ast.Constant) and isinstance(node.value, int)
 
 
 def constant(node):

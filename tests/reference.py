@@ -181,3 +181,101 @@ def is_settled(games, anchor, numbers, edge, upper):
             if found < 0 if upper else found > 0:
                 return False
     return True
+
+
+# Tables as the tests hand them in: the one of a single row, a plain one, and one with shares of 1 and of four figures.
+FLAT = [(0, (1, 2))]
+PLAIN = [(0, (1, 2)), (60, (3, 5)), (160, (7, 10)), (280, (4, 5)), (460, (9, 10))]
+STEEP = [(0, (1, 2)), (1, (1, 2)), (2, (5002, 9999)), (9, (2, 3)), (40, (9998, 9999)), (10 ** 6, (1, 1))]
+
+# Days apart, days shared and days in a row; the games stand in another order than their days.
+LONG = read_book(
+    "9 ann* beat bob; 1 bob beat cid; 5 cid drew ann; 5 cid lost dan*; 5 dan beat cid; 30 ann lost dan; 2 bob drew eve; "
+    "31 ann beat eve; 31 eve beat ann; 9 bob beat fay; 0 fay lost gus; 9999 gus drew hal; 32 hal beat ann; 6 cid beat ann; "
+    "6 cid beat ann; 33 ann drew cid; 33 cid beat gus; 34 hal lost gus; 9999 hal beat ann; 12 dan lost bob*")
+
+# Rules as (class, numbers behind the table).
+KINDS = [("Rule", ()), ("Early", (40, 2)), ("Early", (7, 0)), ("Early", (0, 1)), ("Rested", (2, 3)), ("Rested", (0, 2)),
+         ("Rested", (1, 0)), ("Capped", (5,)), ("Capped", (0,)), ("Capped", (10 ** 6,))]
+
+
+def told_share(table, difference):
+    if difference < 0:
+        return 1 - told_share(table, -difference)
+    return [value(share) for start, share in table if start <= difference][-1]
+
+
+def size_of(kind, step, more, day, own_days, others_days):
+    """By the days of the games that both played ahead of a game on this day."""
+    if kind == "Early":
+        early, many = more
+        return early if len(own_days) < many or len(others_days) < many else step
+    if kind == "Rested":
+        pause, times = more
+        rested = [days for days in (own_days, others_days) if days and day - max(days) > pause]
+        return step * times if rested else step
+    return step
+
+
+def bit_of(kind, step, table, more, difference, halves, day, own_days, others_days):
+    size = size_of(kind, step, more, day, own_days, others_days)
+    bit = size * (Fraction(halves, 2) - told_share(table, difference))
+    return max(-more[0], min(more[0], bit)) if kind == "Capped" else bit
+
+
+def ordered(games):
+    return [games[at] for day, at in sorted((played[0], at) for at, played in enumerate(games))]
+
+
+def walked(kind, step, first, table, more, games):
+    """The trail and the running worths."""
+    steps = []
+    worths = {name: Fraction(first) for name in names_of(games)}
+    days = {name: [] for name in names_of(games)}
+    for day, one, other, halves, side in ordered(games):
+        before, other_before = worths[one], worths[other]
+        bit = bit_of(kind, step, table, more, before - other_before, halves, day, days[one], days[other])
+        steps.append(((day, one, other, halves, side), pair(before), pair(other_before), pair(Fraction(bit))))
+        worths[one] += bit
+        worths[other] -= bit
+        days[one].append(day)
+        days[other].append(day)
+    return (steps, [(name, pair(worths[name])) for name in names_of(games)])
+
+
+def reached_from(games, at):
+    """Whom the game at this place of a book, the games as they were put in, reaches."""
+    places = sorted(range(len(games)), key=lambda place: (games[place][0], place))
+    found = set(games[at][1:3])
+    for place in places[places.index(at) + 1:]:
+        both = set(games[place][1:3])
+        if both & found:
+            found |= both
+    return sorted(found)
+
+
+def shapes(names):
+    """Every tree with these names from left to right."""
+    if len(names) == 1:
+        return [names[0]]
+    return [(one, other) for at in range(1, len(names))
+            for one in shapes(names[:at]) for other in shapes(names[at:])]
+
+
+def outcomes(tree, worths):
+    """Every way how the games of a tree may go, as (winner, how likely)."""
+    if isinstance(tree, str):
+        return [(tree, Fraction(1))]
+    found = []
+    for one, likely in outcomes(tree[0], worths):
+        for other, likely_too in outcomes(tree[1], worths):
+            share = Fraction(worths[one], worths[one] + worths[other])
+            found += [(one, likely * likely_too * share), (other, likely * likely_too * (1 - share))]
+    return found
+
+
+def foretold(tree, worths):
+    whole = {}
+    for winner, likely in outcomes(tree, worths):
+        whole[winner] = whole.get(winner, 0) + likely
+    return [(name, pair(whole[name])) for name in sorted(whole)]

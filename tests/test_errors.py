@@ -6,12 +6,19 @@ from ladderworth.books import read_book
 from ladderworth.ends import ends, lowers, uppers
 from ladderworth.errors import LadderError, NoFit
 from ladderworth.games import game, read_game
+from ladderworth.ledger import Ledger
 from ladderworth.ratios import fraction, over
+from ladderworth.rules import Rule, table_of
 from ladderworth.stretches import stretch
 from ladderworth.sums import fits, sums, weight
+from ladderworth.trees import leaves, tree_shares
 
 NAMES = ["NoNumber", "NoStretch", "NoGame", "NoBook", "NoPlayer", "NoWorth", "NoFit", "NoTable", "NoTree", "NoRow"]
 EVEN = [(1, "ann", "bob", 1, 0)]
+RULE = Rule(32, 1500, [(0, (1, 2))])
+FULL = Ledger(RULE)
+for turn in range(40):
+    FULL.put(EVEN[0])
 
 
 def refusal(name):
@@ -81,6 +88,19 @@ class Raised(unittest.TestCase):
         ("NoPlayer", uppers, (EVEN, "zoe", 1, 1)),
         ("NoPlayer", lowers, (EVEN, "zoe", 1, 1)),
         ("NoPlayer", ends, (EVEN, "zoe", 1, 1)),
+        ("NoTable", table_of, (None,)),
+        ("NoTable", table_of, ([],)),
+        ("NoTable", table_of, ([(0, (1, 0))],)),
+        ("NoTable", Rule, (32, 1500, [])),
+        ("NoBook", FULL.put, (EVEN[0],)),
+        ("NoGame", FULL.take, (0,)),
+        ("NoGame", Ledger(RULE).take, (1,)),
+        ("NoPlayer", FULL.worth, ("zoe",)),
+        ("NoPlayer", Ledger(RULE).worth, ("ann",)),
+        ("NoTree", leaves, (None,)),
+        ("NoTree", leaves, (("ann", "ann"),)),
+        ("NoTree", tree_shares, (("ann", 7), {})),
+        ("NoPlayer", tree_shares, ("ann", {})),
     ]
 
     def test_each_function_raises_just_its_own_class(self):

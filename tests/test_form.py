@@ -2,7 +2,7 @@ import ast
 import os
 import unittest
 
-from tests.form import PACKAGE, cycles, defined, faults
+from tests.form import PACKAGE, classes_of, cycles, defined, faults
 
 FOLDER = os.path.join(os.path.dirname(os.path.dirname(os.path.abspath(__file__))), PACKAGE)
 
@@ -25,7 +25,7 @@ class Package(unittest.TestCase):
     def test_the_files_keep_to_the_rules(self):
         for path, text in texts().items():
             with self.subTest(path):
-                self.assertEqual(faults(path, text), [])
+                self.assertEqual(faults(path, text, classes_of(texts())), [])
 
     def test_no_two_files_draw_from_one_another(self):
         self.assertEqual(cycles(texts()), [])
@@ -39,15 +39,10 @@ class Package(unittest.TestCase):
                         self.assertLessEqual({name.name for name in node.names}, defined(source))
 
     def test_no_name_is_a_method_and_a_value(self):
-        methods = set()
-        values = set()
-        for text in texts().values():
-            for node in ast.walk(ast.parse(text)):
-                if isinstance(node, ast.ClassDef):
-                    methods |= {part.name for part in node.body if isinstance(part, ast.FunctionDef)}
-                if isinstance(node, ast.Attribute) and isinstance(node.ctx, ast.Store):
-                    values.add(node.attr)
-        self.assertEqual(methods & values, set())
+        found = classes_of(texts())
+        self.assertIn("bit", found["methods"])
+        self.assertIn("first", found["values"])
+        self.assertEqual(found["methods"] & found["values"], set())
 
 
 class Reader(unittest.TestCase):
@@ -80,6 +75,17 @@ class Reader(unittest.TestCase):
         ("L24", "def f(a):\n    b = {a}\n    return 1\n"), ("L24", "def f(a):\n    return sorted(set(a), key=len)\n"),
         ("L24", "def f(a):\n    return list(set(a))\n"),
         ("L27", "def f(a):\n    return 2 ** a\n"), ("L27", "x = '%'\n"),
+        ("L13", "def f(a):\n    return a == {1, 2, 3}\n"), ("L13", "def f(a):\n    return a(lambda b: 1, lambda b: 2)\n"),
+        ("L18", "class A:\n    pass\n\n\ndef f():\n    return A\n"), ("L18", "def f():\n    return [ValueError]\n"),
+        ("L18", "class A:\n    def f(self):\n        pass\n\n\nclass B(A):\n    def g(self):\n        A.f(self)\n"),
+        ("L18", "class A:\n    def f(self):\n        pass\n\n    def f(self):\n        pass\n"),
+        ("L18", "class A:\n    pass\n\n\ndef f():\n    A.b = 1\n"), ("L18", "def f(a):\n    a.b.c = 1\n"),
+        ("L23", "def f(a):\n    for b in a:\n        a.append(b)\n"), ("L23", "def f(a):\n    for b in a:\n        a[0] = b\n"),
+        ("L23", "def f(a):\n    for b, c in a.items():\n        a.pop(b)\n"),
+        ("L23", "def f(a):\n    for b, c in enumerate(a.b):\n        a.b.clear()\n"),
+        ("L26", "class A:\n    def title(self):\n        pass\n"), ("L26", "def f(a):\n    a.items = 1\n"),
+        ("L26", "def f(a):\n    a.args = 1\n"), ("L28", "class A:\n    def __init__(self):\n        return None\n"),
+        ("L28", "class A:\n    def __len__(self):\n        return 1\n"),
     ]
 
     def test_what_is_wrong_is_seen(self):
@@ -92,6 +98,15 @@ class Reader(unittest.TestCase):
                     "[b for b in a.items()]", "max(range(a))", "list(reversed(a))", "', '.join(a.keys())"):
             with self.subTest(row):
                 self.assertEqual(faults("some.py", "def f(a):\n    return " + row + "\n"), [])
+
+    def test_right_classes_are_not(self):
+        for text in ("class A:\n    def __init__(self, b):\n        self.b = b\n\n    def get(self):\n        return self.b\n\n\n"
+                     "class C(A):\n    def __init__(self):\n        A.__init__(self, 1)\n\n\ndef f():\n    return C().get()\n",
+                     "class A(ValueError):\n    pass\n\n\ndef f(a):\n    try:\n        g(a)\n    except (A, KeyError):\n"
+                     "        raise A('said') from None\n    return isinstance(a, (A, int))\n",
+                     "def f(a):\n    for b in list(a):\n        a.pop(b)\n"):
+            with self.subTest(text):
+                self.assertEqual(faults("some.py", text), [])
 
     def test_wrong_file_names_are_seen(self):
         for path in ("Some.py", "sum.py", "a-b.py", "_a.py"):

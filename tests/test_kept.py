@@ -7,12 +7,63 @@ from ladderworth.above import above, took, verdict, way
 from ladderworth.books import in_order, players, points, read_book, show_book
 from ladderworth.ends import ends, lowered, lowers, raised, uppers
 from ladderworth.errors import LadderError, NoFit
+from ladderworth.ledger import Ledger
+from ladderworth.rules import Capped, Early, Rested, Rule, share_by, table_of
 from ladderworth.sums import fits, share, sums, weight
+from ladderworth.trees import leaves, tree_shares
+from ladderworth.walks import running, trail
 
 RING = read_book("9 ann* beat bob; 1 bob beat cid; 5 cid beat ann")
 LOOSE = read_book("1 ann drew bob; 2 cid drew dan")
 NONE = read_book("1 ann beat bob; 2 bob beat cid")
 WORTHS = [(1, 2), (3, 1), (2, 1)]
+TABLE = [(0, (1, 2)), (10, (3, 5)), (60, (4, 5))]
+TREE = (("cid", "ann"), "bob")
+NAMED = {"bob": 3, "ann": 5, "cid": 7, "zoe": 1}
+
+
+def rules_of(table):
+    return [Rule(32, 1500, table), Early(32, 1500, table, 40, 2), Rested(32, 1500, table, 2, 3), Capped(32, 1500, table, 9)]
+
+
+def sizes(table):
+    return [rule.size(1, 7) for rule in rules_of(table)]
+
+
+def bits(table, difference):
+    return [rule.bit(difference, 2, 1, 7) for rule in rules_of(table)]
+
+
+def trails(table, games):
+    return [trail(rule, games) for rule in rules_of(table)]
+
+
+def runnings(table, games):
+    return [running(rule, games) for rule in rules_of(table)]
+
+
+def ledgers(table, games):
+    return [told_by_ledger(Ledger(rule), games) for rule in rules_of(table)]
+
+
+def told_by_ledger(ledger, games):
+    told = [ledger.put(played) for played in games]
+    return told + [ledger.games(), ledger.worths(), ledger.take(1), ledger.games(), ledger.worths(), ledger.worth("cid")]
+
+
+def forty_one(table, played):
+    ledger = Ledger(Rule(32, 1500, table))
+    for turn in range(41):
+        ledger.put(played)
+
+
+def taken(table, number):
+    Ledger(Rule(32, 1500, table)).take(number)
+
+
+def worth_of(table, name):
+    Ledger(Rule(32, 1500, table)).worth(name)
+
 
 ASKED = [
     (read_book, ["9 ann beat bob; 1 bob drew cid"]), (read_book, [""]), (show_book, [RING]), (in_order, [RING]),
@@ -25,6 +76,10 @@ ASKED = [
     (raised, [RING, [5, 0, 7], "ann", (3, 2)]), (lowered, [RING, [5, 0, 7], "ann", (3, 2)]),
     (uppers, [RING, "ann", 10, 0]), (uppers, [RING, "ann", 10, 12, (3, 2)]), (lowers, [RING, "cid", 10, 0]),
     (lowers, [RING, "cid", 10, 12, (3, 2)]), (ends, [RING, "bob", 10, 12]), (ends, [RING, "bob", 10, 0]),
+    (table_of, [TABLE]), (table_of, [TABLE[:1]]), (share_by, [TABLE, (61, 2)]), (share_by, [TABLE, (-61, 2)]),
+    (sizes, [TABLE]), (bits, [TABLE, (61, 2)]), (bits, [TABLE, (-10, 1)]), (trails, [TABLE, RING]), (trails, [TABLE, []]),
+    (runnings, [TABLE, RING]), (runnings, [TABLE, []]), (ledgers, [TABLE, RING]), (ledgers, [TABLE, NONE]),
+    (leaves, ["ann"]), (leaves, [TREE]), (tree_shares, [TREE, NAMED]), (tree_shares, ["ann", NAMED]),
 ]
 
 REFUSED = [
@@ -32,14 +87,20 @@ REFUSED = [
     (way, [RING, "ann", "zoe"]), (way, [RING, "zoe", "ann"]), (sums, [RING, WORTHS[:2]]), (fits, [RING, WORTHS, (0, 1)]),
     (weight, [RING, [(1, 1), (0, 1), (1, 1)]]), (uppers, [LOOSE, "ann", 10, 3]), (lowers, [NONE, "ann", 10, 3]),
     (ends, [RING, "zoe", 10, 3]), (ends, [[], "zoe", 10, 3]),
+    (table_of, [[]]), (table_of, [TABLE[1:]]), (table_of, [TABLE + [[70, [1, 1]]]]), (table_of, [TABLE * 4]), (table_of, [None]),
+    (sizes, [TABLE[1:]]), (forty_one, [TABLE, RING[0]]), (taken, [TABLE, 1]), (worth_of, [TABLE, "ann"]),
+    (leaves, [["ann", "bob"]]), (leaves, [("ann", ["bob"])]), (tree_shares, [("ann", []), NAMED]),
+    (tree_shares, [("ann", "yan"), NAMED]), (tree_shares, ["ann", {}]),
 ]
 
 
 def spoil(thing):
-    """Changes every list in it, however deep."""
+    """Changes every list and dict in it, however deep."""
     if isinstance(thing, (list, tuple)):
         for part in thing:
             spoil(part)
+    if isinstance(thing, dict):
+        thing.clear()
     if isinstance(thing, list):
         thing.reverse()
         thing.append("spoiled")
