@@ -45,7 +45,7 @@ def read_game(text):
     if not isinstance(text, str):
         raise NoGame("a game is read from a text")
     words = text.split(" ")
-    if len(words) != 4 or not is_day(words[0]) or words[2] not in WORDS:
+    if len(words) != 4 or not is_number(words[0], LONGEST_DAY) or words[2] not in WORDS:
         raise NoGame("a game is written as DAY ONE WORD OTHER")
     if is_starred(words[1]) and is_starred(words[3]):
         raise NoGame("one player at most had the side")
@@ -53,10 +53,10 @@ def read_game(text):
     return game(int(words[0]), unstarred(words[1]), unstarred(words[3]), WORDS.index(words[2]), side)
 
 
-def is_day(word):
+def is_number(word, longest):
     if word == "0":
         return True
-    if not 1 <= len(word) <= LONGEST_DAY or word[0] == "0":
+    if not 1 <= len(word) <= longest or word[0] == "0":
         return False
     return all([sign in FIGURES for sign in word])
 

@@ -52,5 +52,9 @@ def passed(own, others, worths):
 def win_over(name, others, worths):
     whole = (0, 1)
     for other in others:
-        whole = plus(whole, times(others[other], share((worths[name], 1), (worths[other], 1), 0, None)))
+        whole = plus(whole, times(others[other], game_share(name, other, worths)))
     return whole
+
+
+def game_share(one, other, worths):
+    return share((worths[one], 1), (worths[other], 1), 0, None)

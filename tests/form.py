@@ -32,6 +32,7 @@ EXPRESSIONS = (ast.BoolOp, ast.BinOp, ast.UnaryOp, ast.Lambda, ast.IfExp, ast.Di
 WALKERS = {"zip", "enumerate", "reversed", "range"}
 WALKING_METHODS = {"items", "keys", "values"}
 TAKERS = {"list", "tuple", "dict", "sorted", "sum", "any", "all", "enumerate", "zip"}
+READS = {"get", "items", "keys", "values", "index", "count", "copy"}
 CHANGES = {"append", "clear", "extend", "insert", "pop", "remove", "reverse", "setdefault", "update"}
 TAKEN_NAMES = {name for kind in (str, int, list, dict, set, frozenset, bytes) for name in dir(kind)}
 FREE_VALUES = {"count", "index", "title", "find", "get", "join", "lower", "upper", "split", "strip", "copy", "add"}
@@ -42,7 +43,7 @@ def faults(path, text, classes=None):
     classes = classes or classes_of({path: text})
     tree = ast.parse(text)
     found = signs(text) + top(path, tree) + misplaced(tree) + changed_walks(tree) + lambdas(tree)
-    found += class_uses(tree, classes) + class_bodies(tree)
+    found += class_uses(tree, classes) + class_bodies(tree) + kept_tops(tree)
     own = own_methods(tree) | classes["methods"]
     taken = {name.name for node in tree.body if isinstance(node, ast.ImportFrom) for name in node.names}
     taken |= {node.name for node in tree.body if isinstance(node, ast.ClassDef)}
@@ -99,6 +100,26 @@ def is_plain(node, within):
     if isinstance(node, ast.UnaryOp):
         return is_plain(node.operand, True)
     return isinstance(node, (ast.Constant, ast.Name))
+
+
+def kept_tops(tree):
+    """Lists and dicts of a file's top that are not only read where they stand (L15)."""
+    parents = {part: node for node in ast.walk(tree) for part in ast.iter_child_nodes(node)}
+    tops = {node.targets[0].id for node in tree.body if isinstance(node, ast.Assign) and is_kept(node)}
+    return [("L15", node.lineno) for node in ast.walk(tree) if isinstance(node, ast.Name) and node.id in tops
+            and isinstance(node.ctx, ast.Load) and not is_read(node, parents[node])]
+
+
+def is_kept(node):
+    return isinstance(node.targets[0], ast.Name) and isinstance(node.value, (ast.List, ast.Dict))
+
+
+def is_read(node, parent):
+    if isinstance(parent, ast.Subscript):
+        return parent.value is node and isinstance(parent.ctx, ast.Load)
+    if isinstance(parent, ast.Attribute):
+        return parent.attr in READS
+    return isinstance(parent, (ast.Compare, ast.For, ast.comprehension)) or called(parent) in TAKERS | {"len", "min", "max"}
 
 
 def misplaced(tree):

@@ -1,5 +1,6 @@
 """The words of ../shared/DOC.md done plainly, with Python's own fractions and sets, and books to try them on."""
 
+import re
 from bisect import bisect_left, bisect_right
 from fractions import Fraction
 from itertools import combinations, permutations, product
@@ -279,3 +280,48 @@ def foretold(tree, worths):
     for winner, likely in outcomes(tree, worths):
         whole[winner] = whole.get(winner, 0) + likely
     return [(name, pair(whole[name])) for name in sorted(whole)]
+
+
+def group_foretold(names, worths):
+    pairs = list(combinations(names, 2))
+    whole = {name: Fraction(0) for name in names}
+    for winners in product(*pairs):
+        likely = Fraction(1)
+        for (one, other), winner in zip(pairs, winners):
+            likely *= Fraction(worths[winner], worths[one] + worths[other])
+        wins = {name: winners.count(name) for name in names}
+        first = [name for name in names if wins[name] == max(wins.values())]
+        for name in first:
+            whole[name] += likely / len(first)
+    return [(name, pair(whole[name])) for name in sorted(whole)]
+
+
+def places_at(worths):
+    """By the row of all worths from the greatest on: where such a worth is there first, and where last."""
+    row = sorted([value(worth) for worth in worths], reverse=True)
+    return [(row.index(value(worth)) + 1, len(row) - row[::-1].index(value(worth))) for worth in worths]
+
+
+def ranked(stretches):
+    found = []
+    for at, (low, high) in enumerate(stretches):
+        over = [place for place, part in enumerate(stretches) if high is not None and value(part[0]) > value(high)]
+        under = [place for place, part in enumerate(stretches) if part[1] is not None and value(part[1]) < value(low)]
+        found.append((1 + len(over), len(stretches) - len(under), sorted(over + under)))
+    return found
+
+
+def read_plain_tree(text):
+    """The brackets are rewritten from within, each pair as a number in `<` and `>`; None where the text is no tree."""
+    if not isinstance(text, str) or not re.fullmatch(r"[a-z() ]*", text):
+        return None
+    trees = {}
+    while found := re.search(r"\(([a-z]{1,8}|<[0-9]+>) ([a-z]{1,8}|<[0-9]+>)\)", text):
+        mark = f"<{len(trees)}>"
+        trees[mark] = tuple(trees.get(word, word) for word in found.groups())
+        text = text[:found.start()] + mark + text[found.end():]
+    if text not in trees and not re.fullmatch("[a-z]{1,8}", text):
+        return None
+    tree = trees.get(text, text)
+    names = re.findall("[a-z]+", str(tree))
+    return tree if len(names) == len(set(names)) <= 8 else None

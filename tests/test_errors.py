@@ -3,14 +3,17 @@ import unittest
 from ladderworth import errors
 from ladderworth.above import above, took, way
 from ladderworth.books import read_book
+from ladderworth.desk import Desk
 from ladderworth.ends import ends, lowers, uppers
 from ladderworth.errors import LadderError, NoFit
 from ladderworth.games import game, read_game
+from ladderworth.groups import group_shares
 from ladderworth.ledger import Ledger
 from ladderworth.ratios import fraction, over
 from ladderworth.rules import Rule, table_of
 from ladderworth.stretches import stretch
 from ladderworth.sums import fits, sums, weight
+from ladderworth.texts import read_tree, show_tree
 from ladderworth.trees import leaves, tree_shares
 
 NAMES = ["NoNumber", "NoStretch", "NoGame", "NoBook", "NoPlayer", "NoWorth", "NoFit", "NoTable", "NoTree", "NoRow"]
@@ -101,6 +104,23 @@ class Raised(unittest.TestCase):
         ("NoTree", leaves, (("ann", "ann"),)),
         ("NoTree", tree_shares, (("ann", 7), {})),
         ("NoPlayer", tree_shares, ("ann", {})),
+        ("NoTree", group_shares, ([], {})),
+        ("NoTree", group_shares, (["ann", "ann"], {"ann": 5})),
+        ("NoPlayer", group_shares, (["ann"], {})),
+        ("NoTree", read_tree, (None,)),
+        ("NoTree", read_tree, ("",)),
+        ("NoTree", read_tree, ("(ann ann)",)),
+        ("NoTree", show_tree, (["ann", "bob"],)),
+        ("NoRow", Desk().say, (None,)),
+        ("NoRow", Desk().say, ("",)),
+        ("NoRow", Desk().say, ("take 01",)),
+        ("NoGame", Desk().say, ("put ",)),
+        ("NoGame", Desk().say, ("take 1",)),
+        ("NoTree", Desk().say, ("tree ",)),
+        ("NoTree", Desk().say, ("group ",)),
+        ("NoPlayer", Desk().say, ("tree ann",)),
+        ("NoPlayer", Desk().say, ("way ann bob",)),
+        ("NoFit", Desk().say, ("ends ann 1 1",)),
     ]
 
     def test_each_function_raises_just_its_own_class(self):

@@ -65,6 +65,8 @@ class Reader(unittest.TestCase):
         ("L14", "x = '\u00e4'\n"), ("L14", "x = 1\t\n"),
         ("L15", "def f(id):\n    return 1\n"), ("L15", "def f():\n    sum = 1\n"), ("L15", "x = 1\nx = 2\n"),
         ("L15", "from ladderworth.errors import a\n\n\ndef f(a):\n    return 1\n"),
+        ("L15", "x = [1]\n\n\ndef f():\n    return x\n"), ("L15", "x = {}\n\n\ndef f():\n    x[1] = 2\n"),
+        ("L15", "x = []\n\n\ndef f():\n    x.append(2)\n"), ("L15", "x = {}\n\n\ndef f(g):\n    return g(x)\n"),
         ("L17", "# its type\n"), ("L17", "def f(a):\n    return a.open\n"), ("L17", "def f(a):\n    return getattr(a, 'b')\n"),
         ("L19", "def f():\n    try:\n        g()\n    except Exception:\n        pass\n"),
         ("L20", "def f(a, b):\n    return a is b\n"), ("L21", "def f(a: int):\n    return a\n"),
@@ -98,6 +100,11 @@ class Reader(unittest.TestCase):
                     "[b for b in a.items()]", "max(range(a))", "list(reversed(a))", "', '.join(a.keys())"):
             with self.subTest(row):
                 self.assertEqual(faults("some.py", "def f(a):\n    return " + row + "\n"), [])
+
+    def test_lists_and_dicts_of_the_top_that_are_read_are_not(self):
+        for row in ("x[a]", "a in x", "x.get(a)", "[b for b in x]", "list(x)", "len(x)", "x[a](a)", "a == x"):
+            with self.subTest(row):
+                self.assertEqual(faults("some.py", "x = {'b': 1}\n\n\ndef f(a):\n    return " + row + "\n"), [])
 
     def test_right_classes_are_not(self):
         for text in ("class A:\n    def __init__(self, b):\n        self.b = b\n\n    def get(self):\n        return self.b\n\n\n"

@@ -1,4 +1,4 @@
-"""The names and arguments of the document's interface, as far as the stages are there."""
+"""The names and arguments of the document's interface."""
 
 import importlib
 import inspect
@@ -23,6 +23,10 @@ FUNCTIONS = {
     "walks": ["trail(rule, games)", "running(rule, games)"],
     "ledger": ["Ledger(rule)"],
     "trees": ["leaves(tree)", "tree_shares(tree, worths)"],
+    "groups": ["group_shares(names, worths)"],
+    "ranks": ["places(worths)", "ranking(stretches)", "best_case(stretches, at)", "worst_case(stretches, at)"],
+    "texts": ["show_fraction(one)", "read_tree(text)", "show_tree(tree)"],
+    "desk": ["Desk()"],
     "errors": ["NoFit(verdict)"],
 }
 METHODS = {
@@ -31,6 +35,7 @@ METHODS = {
     ("rules", "Rested"): ["size(self, played, rest)", "bit(self, difference, halves, played, rest)"],
     ("rules", "Capped"): ["size(self, played, rest)", "bit(self, difference, halves, played, rest)"],
     ("ledger", "Ledger"): ["put(self, played)", "take(self, number)", "games(self)", "worths(self)", "worth(self, name)"],
+    ("desk", "Desk"): ["say(self, row)"],
 }
 
 

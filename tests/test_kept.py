@@ -5,11 +5,15 @@ from copy import deepcopy
 
 from ladderworth.above import above, took, verdict, way
 from ladderworth.books import in_order, players, points, read_book, show_book
+from ladderworth.desk import Desk
 from ladderworth.ends import ends, lowered, lowers, raised, uppers
 from ladderworth.errors import LadderError, NoFit
+from ladderworth.groups import group_shares
 from ladderworth.ledger import Ledger
+from ladderworth.ranks import best_case, places, ranking, worst_case
 from ladderworth.rules import Capped, Early, Rested, Rule, share_by, table_of
 from ladderworth.sums import fits, share, sums, weight
+from ladderworth.texts import read_tree, show_fraction, show_tree
 from ladderworth.trees import leaves, tree_shares
 from ladderworth.walks import running, trail
 
@@ -20,6 +24,9 @@ WORTHS = [(1, 2), (3, 1), (2, 1)]
 TABLE = [(0, (1, 2)), (10, (3, 5)), (60, (4, 5))]
 TREE = (("cid", "ann"), "bob")
 NAMED = {"bob": 3, "ann": 5, "cid": 7, "zoe": 1}
+STRETCHES = [((1, 2), (1, 1)), ((2, 1), None), ((0, 1), (0, 1)), ((1, 3), (5, 2))]
+ROWS = ["put 9 ann* beat bob", "put 1 bob beat cid", "put 5 cid beat ann", "book", "verdict", "way ann bob", "ends ann 7 3",
+        "rank ann 7 3", "running", "worth bob 3", "worth ann 5", "tree (bob ann)", "group bob ann", "take 2", "book", "verdict"]
 
 
 def rules_of(table):
@@ -61,6 +68,11 @@ def taken(table, number):
     Ledger(Rule(32, 1500, table)).take(number)
 
 
+def said(rows):
+    desk = Desk()
+    return [desk.say(row) for row in rows]
+
+
 def worth_of(table, name):
     Ledger(Rule(32, 1500, table)).worth(name)
 
@@ -80,6 +92,10 @@ ASKED = [
     (sizes, [TABLE]), (bits, [TABLE, (61, 2)]), (bits, [TABLE, (-10, 1)]), (trails, [TABLE, RING]), (trails, [TABLE, []]),
     (runnings, [TABLE, RING]), (runnings, [TABLE, []]), (ledgers, [TABLE, RING]), (ledgers, [TABLE, NONE]),
     (leaves, ["ann"]), (leaves, [TREE]), (tree_shares, [TREE, NAMED]), (tree_shares, ["ann", NAMED]),
+    (group_shares, [["zoe", "ann", "cid", "bob"], NAMED]), (group_shares, [["cid", "ann"], NAMED]), (group_shares, [["ann"], NAMED]),
+    (places, [WORTHS]), (places, [WORTHS * 2]), (ranking, [STRETCHES]), (ranking, [STRETCHES[:1]]), (ranking, [STRETCHES[:2] * 4]),
+    (best_case, [STRETCHES, 1]), (best_case, [STRETCHES, 0]), (worst_case, [STRETCHES, 1]), (worst_case, [STRETCHES, 0]),
+    (show_fraction, [(-1, 2)]), (read_tree, ["((cid ann) bob)"]), (show_tree, [TREE]), (said, [ROWS]), (said, [ROWS[3:5]]),
 ]
 
 REFUSED = [
@@ -91,6 +107,9 @@ REFUSED = [
     (sizes, [TABLE[1:]]), (forty_one, [TABLE, RING[0]]), (taken, [TABLE, 1]), (worth_of, [TABLE, "ann"]),
     (leaves, [["ann", "bob"]]), (leaves, [("ann", ["bob"])]), (tree_shares, [("ann", []), NAMED]),
     (tree_shares, [("ann", "yan"), NAMED]), (tree_shares, ["ann", {}]),
+    (group_shares, [[], NAMED]), (group_shares, [["cid", "ann", "cid"], NAMED]), (group_shares, [["cid", ["ann"]], NAMED]),
+    (group_shares, [["cid", "yan"], NAMED]), (read_tree, [["ann", "bob"]]), (read_tree, [("ann", "bob")]), (show_tree, [["ann", "bob"]]),
+    (said, [ROWS + [["book"]]]), (said, [ROWS + ["take 2"]]), (said, [ROWS + [{"book": 1}]]),
 ]
 
 
